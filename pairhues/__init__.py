@@ -1,0 +1,1 @@
+"""Pairhues: pairs between two sides, each with a hue."""
