@@ -1,13 +1,14 @@
 """Plain questions about lists of pairs, asked without a hall."""
 
-_LEFT = 0
-_RIGHT = 1
-_HUE = 2
+# The sides, and the hue, as places in a row (left, right, hue).
+LEFT = 0
+RIGHT = 1
+HUE = 2
 
 
 def count_of(rows):
     """Tell how many of the rows (left, right, ..) meet at the fullest ends."""
-    return max(_most_at(rows, _LEFT), _most_at(rows, _RIGHT))
+    return max(_most_at(rows, LEFT), _most_at(rows, RIGHT))
 
 
 def is_good(rows):
@@ -17,9 +18,9 @@ def is_good(rows):
     the count.
     """
     count = count_of(rows)
-    if not all(row[_HUE] < count for row in rows):
+    if not all(row[HUE] < count for row in rows):
         return False
-    return _hues_differ(rows, _LEFT) and _hues_differ(rows, _RIGHT)
+    return _hues_differ(rows, LEFT) and _hues_differ(rows, RIGHT)
 
 
 def _most_at(rows, side):
@@ -34,4 +35,4 @@ def _most_at(rows, side):
 
 def _hues_differ(rows, side):
     """Tell whether no two rows of one hue meet at an end of one side."""
-    return len({(row[side], row[_HUE]) for row in rows}) == len(rows)
+    return len({(row[side], row[HUE]) for row in rows}) == len(rows)
