@@ -50,10 +50,9 @@ def _answer(hall, line):
 
 def _done(hall, deed):
     """Do a deed and tell the tuples that the hall tells of it, as a list."""
-    word, *numbers = deed
-    if word == _COME:
-        return [hall.come(*numbers)]
-    return hall.go(*numbers)
+    if deed[0] == _COME:
+        return [hall.come(deed[1], deed[2])]
+    return hall.go(deed[1])
 
 
 def _text_of(row):
